@@ -1,0 +1,1 @@
+"""Sharesample: whom to ask, so that the asked few speak for all."""
