@@ -6,26 +6,28 @@ from sharesample.fracs import common_bottom, fraction_of, is_fraction, is_whole,
 MOST_HOUSES = 12
 
 
-def is_lot(thing, many):
+def are_houses(thing, many):
+    # Unlike ones, in any order. A set is made of whole numbers alone: a list, say, goes into none.
     if not isinstance(thing, tuple):
         return False
-    ahead = -1
-    for house in thing:
-        if not is_whole(house) or house <= ahead or house >= many:
-            return False
-        ahead = house
-    return True
+    if not all([is_whole(house) and house >= 0 and house < many for house in thing]):
+        return False
+    return len(set(thing)) == len(thing)
+
+
+def is_lot(thing, many):
+    return are_houses(thing, many) and list(thing) == sorted(thing)
 
 
 def is_row(thing, many):
     if not isinstance(thing, tuple) or len(thing) != 2:
         return False
-    if not is_lot(thing[1], many):
+    if not are_houses(thing[1], many):
         return False
     return is_fraction(thing[0]) and thing[0][0] > 0
 
 
-def lots_rise(rows):
+def rows_rise(rows):
     for ahead, behind in zip(rows, rows[1:]):
         if ahead[1] >= behind[1]:
             return False
@@ -45,7 +47,8 @@ def sums_to_one(rows):
     return sum([weight for weight, lot in weighed[1]]) == weighed[0]
 
 
-def is_drawing(thing):
+def is_drawn(thing):
+    # All that a row drawing must have, too: what a drawing has beyond it is that the houses of its rows rise.
     if not isinstance(thing, tuple) or len(thing) != 2:
         return False
     many = thing[0]
@@ -57,7 +60,11 @@ def is_drawing(thing):
     for row in rows:
         if not is_row(row, many):
             return False
-    return lots_rise(rows) and sums_to_one(rows)
+    return rows_rise(rows) and sums_to_one(rows)
+
+
+def is_drawing(thing):
+    return is_drawn(thing) and all([is_lot(lot, thing[0]) for chance, lot in thing[1]])
 
 
 def check_drawing(thing):

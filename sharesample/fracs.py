@@ -33,6 +33,12 @@ def is_fraction(thing):
     return thing[1] >= 1 and common_divisor(thing[0], thing[1]) == 1
 
 
+def are_fractions(thing, many):
+    if not isinstance(thing, list) or len(thing) != many:
+        return False
+    return all([is_fraction(part) for part in thing])
+
+
 def frac_sum(one, other):
     return fraction_of(one[0] * other[1] + other[0] * one[1], one[1] * other[1])
 
@@ -66,3 +72,13 @@ def common_bottom(some):
 
 def tops_over(some, bottom):
     return [part[0] * (bottom // part[1]) for part in some]
+
+
+def over_one(some):
+    bottom = common_bottom(some)
+    return (bottom, tops_over(some, bottom))
+
+
+def frac_total(some):
+    tops = over_one(some)
+    return fraction_of(sum(tops[1]), tops[0])

@@ -3,6 +3,7 @@
 import copy
 import unittest
 from fractions import Fraction
+from itertools import product
 
 HALF = (1, 2)
 ONE = (1, 1)
@@ -36,6 +37,22 @@ def pairs_of(text):
     return [as_pair(part) for part in text.split()]
 
 
+def numbers_of(some):
+    return [Fraction(*part) for part in some]
+
+
+def bad_lists(good):
+    """Things that miss being a list of as many fractions as a list of at least one, most of them in one thing."""
+    bad = [tuple(good), good[:-1], good + [ZERO], good + [ONE], good + good, [good], (good,), tuple(good[:-1])]
+    for thing in ODD_THINGS:
+        bad.append(good[:-1] + [thing])
+        bad.append([thing] + good[1:])
+    bad.append(good[:-1] + [list(good[-1])])
+    bad.append(good[:-1] + [(good[-1][0] * 2, good[-1][1] * 2)])
+    bad.append(good[:-1] + [(-good[-1][0], -good[-1][1])])
+    return bad + ODD_THINGS
+
+
 def drawing_of_text(many, *rows):
     """A drawing of rows like '1/2 : 0 2'."""
     made = []
@@ -67,6 +84,23 @@ class Case(unittest.TestCase):
             asked(*args)
         self.assertIs(type(caught.exception), kind)
         self.assertEqual(repr(args), before)
+
+    def assert_refusals(self, asked, good, faults):
+        """Faults are tuples (class, place, things) in the document's order: things for that place of the good ones.
+
+        Each thing by itself is refused with its class; where several are due at once, the first one's class is told."""
+        asked(*good)
+        for kind, place, things in faults:
+            for thing in things:
+                self.assert_refused(kind, asked, *good[:place], thing, *good[place + 1:])
+        choices = []
+        for place, thing in enumerate(good):
+            bad = [(rank, part) for rank, fault in enumerate(faults) if fault[1] == place for part in fault[2][:3]]
+            choices.append([(len(faults), thing)] + bad)
+        for chosen in product(*choices):
+            first = min(rank for rank, thing in chosen)
+            if first < len(faults):
+                self.assert_refused(faults[first][0], asked, *[thing for rank, thing in chosen])
 
     def assert_askers_own(self, asked, *args):
         """Point 2: nothing handed in is changed, and nothing told hangs on what is changed later."""

@@ -104,6 +104,47 @@ class Form(unittest.TestCase):
                 if isinstance(node, ast.arg):
                     self.assertFalse(hasattr(builtins, node.arg), (path.name, node.arg))
 
+    def test_each_name_once_at_the_top_and_no_import_hidden(self):
+        for path, tree in trees():
+            rows = [node for node in tree.body if isinstance(node, ast.ImportFrom)]
+            imported = [alias.asname or alias.name for node in rows for alias in node.names]
+            top = list(imported)
+            classes = set()
+            for node in tree.body:
+                if isinstance(node, (ast.FunctionDef, ast.ClassDef)):
+                    top.append(node.name)
+                if isinstance(node, ast.ClassDef):
+                    classes.add(node.name)
+                if isinstance(node, ast.Assign):
+                    top.append(node.targets[0].id)
+            self.assertEqual(sorted(top), sorted(set(top)), path.name)
+            used = {node.id for node in ast.walk(tree) if isinstance(node, ast.Name)}
+            self.assertEqual(set(imported) - used, set(), path.name)
+            for node in tree.body:
+                if isinstance(node, ast.FunctionDef):
+                    inside = set(bound_names(node)) - {node.name}
+                    self.assertEqual(inside & (set(imported) | classes), set(), (path.name, node.name))
+
+    def test_no_two_files_draw_from_one_another(self):
+        drawn = {}
+        for path, tree in trees():
+            modules = [node.module for node in ast.walk(tree) if isinstance(node, ast.ImportFrom)]
+            drawn[path.stem] = {module.split(".")[-1] for module in modules}
+        while drawn:
+            free = [name for name in drawn if not drawn[name] & set(drawn)]
+            self.assertTrue(free, sorted(drawn))
+            for name in free:
+                del drawn[name]
+
+    def test_walked_at_once(self):
+        for path, tree in trees():
+            for node in ast.walk(tree):
+                if isinstance(node, (ast.Assign, ast.Return)) and isinstance(node.value, ast.Call):
+                    asked = node.value.func
+                    name = asked.id if isinstance(asked, ast.Name) else getattr(asked, "attr", None)
+                    kept = ("zip", "enumerate", "reversed", "range", "items", "keys", "values", "set", "frozenset")
+                    self.assertNotIn(name, kept, (path.name, node.lineno))
+
     def test_methods(self):
         methods = {item.name for path, tree in trees() for node in tree.body if isinstance(node, ast.ClassDef)
                    for item in node.body if isinstance(item, ast.FunctionDef)}
