@@ -32,9 +32,14 @@ def moved_spread(drawing, guess, worths):
     return guess_spread(drawing, guess[0], beyond)
 
 
-def nought_guess(drawing, worths):
+def full_weights(drawing):
     weights = right_weights(drawing)
     if None in weights:
         raise NoPair("a house with the share 0")
+    return weights
+
+
+def nought_guess(drawing, worths):
+    weights = full_weights(drawing)
     check_worths(worths, drawing[0])
     return (weights, list(worths))

@@ -120,7 +120,7 @@ class Form(unittest.TestCase):
             self.assertEqual(sorted(top), sorted(set(top)), path.name)
             used = {node.id for node in ast.walk(tree) if isinstance(node, ast.Name)}
             self.assertEqual(set(imported) - used, set(), path.name)
-            for node in tree.body:
+            for node in ast.walk(tree):
                 if isinstance(node, ast.FunctionDef):
                     inside = set(bound_names(node)) - {node.name}
                     self.assertEqual(inside & (set(imported) | classes), set(), (path.name, node.name))
@@ -152,6 +152,33 @@ class Form(unittest.TestCase):
             for node in ast.walk(tree):
                 if isinstance(node, ast.Call) and isinstance(node.func, ast.Attribute):
                     self.assertIn(node.func.attr, methods | set(OWN_METHODS), (path.name, node.lineno))
+
+    def test_classes(self):
+        taken = {name for kind in (str, int, list, tuple, dict, set, bytes) for name in dir(kind)}
+        for path, tree in trees():
+            for node in ast.walk(tree):
+                if isinstance(node, ast.ClassDef):
+                    self.assertIn(node, tree.body, (path.name, node.name))
+                    self.assertLessEqual(len(node.bases), 1, (path.name, node.name))
+                    self.assertEqual(node.keywords + node.decorator_list, [])
+                    for item in node.body:
+                        self.assertIsInstance(item, (ast.FunctionDef, ast.Pass), (path.name, item.lineno))
+                    methods = [item.name for item in node.body if isinstance(item, ast.FunctionDef)]
+                    self.assertEqual(sorted(methods), sorted(set(methods)), (path.name, node.name))
+                    self.assertEqual(set(methods) & taken - {"__init__"}, set(), (path.name, node.name))
+                if isinstance(node, ast.Attribute) and isinstance(node.ctx, ast.Store):
+                    self.assertNotIn(node.attr, taken, (path.name, node.lineno))
+                    self.assertIsInstance(node.value, ast.Name, (path.name, node.lineno))
+                    self.assertEqual(node.value.id, "self", (path.name, node.lineno))
+
+    def test_is_stands_beside_none_true_and_false(self):
+        for path, tree in trees():
+            for node in ast.walk(tree):
+                if isinstance(node, ast.Compare):
+                    for operation, other in zip(node.ops, node.comparators):
+                        if isinstance(operation, (ast.Is, ast.IsNot)):
+                            self.assertIsInstance(other, ast.Constant, (path.name, node.lineno))
+                            self.assertIn(repr(other.value), ("None", "True", "False"), (path.name, node.lineno))
 
 
 if __name__ == "__main__":
